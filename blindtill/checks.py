@@ -1,0 +1,15 @@
+"""What several files ask of the numbers that they are handed."""
+
+from blindtill.errors import NoNumber
+
+
+def is_number(thing, least):
+    """Whether this is a whole number from least on."""
+    # True and False are integers to Python, but no numbers here.
+    return isinstance(thing, int) and not isinstance(thing, bool) and thing >= least
+
+
+def check_number(thing, least):
+    """Refuse what is no whole number from least on."""
+    if not is_number(thing, least):
+        raise NoNumber()
