@@ -34,6 +34,11 @@ def check_pile(thing):
 def whole(pile):
     """The sum of the pile's coins."""
     check_pile(pile)
+    return sum_of(pile)
+
+
+def sum_of(pile):
+    """The whole of what is known to be a pile."""
     return sum([worth * many for worth, many in pile])
 
 
@@ -68,8 +73,8 @@ def take(pile, other):
 
 
 def check_small_pile(pile):
-    """Refuse a pile that isn't small."""
-    if whole(pile) > SMALL_WHOLE:
+    """Refuse what is known to be a pile, but isn't small."""
+    if sum_of(pile) > SMALL_WHOLE:
         raise TooGreat()
 
 
@@ -78,42 +83,80 @@ def payings(pile, amount):
     check_pile(pile)
     check_number(amount, 0)
     check_small_pile(pile)
-    if amount > whole(pile):
+    if amount > sum_of(pile):
         return []
-    counts = _counts_behind(pile, amount)
-    if counts[0][amount] > MOST_PAYINGS:
+    if _may_be_too_many(pile) and _how_many(pile, amount) > MOST_PAYINGS:
         raise TooGreat()
-    return _listed(pile, amount, counts)
+    return _listed(pile, amount)
 
 
-def _counts_behind(pile, amount):
-    """At each place of the pile, and at its end, how many payings of 0 to amount the lots from there on have."""
-    counts = [[1] + [0] * amount]
-    for worth, many in reversed(pile):
-        counts.append(_with_lot(counts[-1], worth, many))
-    counts.reverse()
-    return counts
+def _may_be_too_many(pile):
+    """Whether more piles lie in the pile, of whatever whole, than payings may be told."""
+    within = 1
+    for _, many in pile:
+        within *= many + 1
+    return within > MOST_PAYINGS
 
 
-def _with_lot(count, worth, many):
-    """How many payings of each amount there are with this lot, too."""
-    return [sum([count[amount - worth * coins] for coins in range(min(many, amount // worth) + 1)])
-            for amount in range(len(count))]
+def _how_many(pile, amount):
+    """How many payings of the amount there are."""
+    # What a paying leaves is a paying of the rest, so there are as many of these: the shorter table tells both.
+    least = min(amount, sum_of(pile) - amount)
+    table = [1] + [0] * least
+    total = 0
+    for worth, many in pile:
+        total += worth * many
+        _count_lot(table, worth, many, min(least, total))
+    return table[least]
 
 
-def _listed(pile, amount, counts):
-    begun = [((), amount)]
-    # Only what the lots behind can finish is kept, so there are never more begun than there are payings.
-    for place, (worth, many) in enumerate(pile):
-        begun = [longer for paying, rest in begun for longer in _longer(paying, rest, worth, many, counts[place + 1])]
-    return sorted([paying for paying, _ in begun])
+def _count_lot(table, worth, many, top):
+    """Make the table, which counts the payings from the lots ahead, count those with this lot, too, up to top."""
+    # First as if there were coins of this worth without end; then what takes more than there are goes out again.
+    for total in range(worth, top + 1):
+        table[total] += table[total - worth]
+    gap = worth * (many + 1)
+    for total in range(top, gap - 1, -1):
+        table[total] -= table[total - gap]
 
 
-def _longer(paying, rest, worth, many, count):
-    """The paying with each number of coins of this lot behind which the rest can be paid, and that rest."""
-    found = []
-    for coins in range(min(many, rest // worth) + 1):
-        left = rest - worth * coins
-        if count[left] > 0:
-            found.append((paying + ((worth, coins),) if coins > 0 else paying, left))
+def _listed(pile, amount):
+    """The rising list of the payings of the amount, which is no more than the whole."""
+    ends = {0: [()]}
+    for (worth, many), rests in reversed(list(zip(pile, _rests(pile, amount)))):
+        ends = _ends_with_lot(ends, worth, many, rests)
+    return ends.get(amount, [])
+
+
+def _rests(pile, amount):
+    """For each lot of the pile, what those ahead may have left to pay: no more than it and those behind have in all."""
+    rests = []
+    total = sum_of(pile)
+    ahead = 0
+    # Of these bits the one at each sum tells whether the lots ahead can pay it.
+    paid_ahead = 1
+    for worth, many in pile:
+        least, greatest = max(0, amount - ahead), min(amount, total - ahead)
+        rests.append([rest for rest in range(least, greatest + 1) if paid_ahead >> (amount - rest) & 1])
+        ahead += worth * many
+        for _ in range(many):
+            paid_ahead |= paid_ahead << worth
+    return rests
+
+
+def _ends_with_lot(ends, worth, many, rests):
+    """The rising list of the payings of each of the rests, from this lot and those behind, of which ends tells."""
+    # Each end is made once for all the ways ahead of it. A paying without coins of this worth begins with a greater
+    # worth, so it comes behind those with some.
+    found = {}
+    for rest in rests:
+        listed = []
+        for coins in range(1, min(many, rest // worth) + 1):
+            behind = ends.get(rest - worth * coins)
+            if behind is not None:
+                lot = ((worth, coins),)
+                listed.extend([lot + end for end in behind])
+        listed.extend(ends.get(rest, []))
+        if listed:
+            found[rest] = listed
     return found

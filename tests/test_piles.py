@@ -5,7 +5,7 @@ import unittest
 
 from blindtill.errors import NoCoins, NoNumber, NoPile, TooGreat
 from blindtill.piles import is_pile, less, payings, put, take, whole
-from things import NO_NUMBERS, NO_NUMBERS_FROM_1, NO_PILES, one_or_more_wrong, told, told_each_way
+from things import NO_NUMBERS, NO_NUMBERS_FROM_1, NO_PILES, one_or_more_wrong, seconds, told, told_each_way
 
 MANY = 10 ** 12
 PILES = (
@@ -16,6 +16,10 @@ PILES = (
 # The pile, an amount and how many payings of it there are.
 JUST_2000 = (((1, 4), (2, 7), (3, 4), (4, 6), (6, 5), (11, 3), (14, 5)), 70)
 JUST_2001 = (((1, 6), (3, 6), (4, 6), (5, 6), (9, 3), (11, 4), (15, 2)), 81)
+
+# Just 2,000, too, of a pile in which far more piles lie; and a pile of which the half has far more payings.
+MANY_ONES = (((1, 62), (2, 4), (3, 4), (4, 4), (5, 1), (6, 1), (7, 1), (8, 1)), 62)
+TWO_OF_EACH = tuple((worth, 2) for worth in range(1, 12))
 
 
 def coins_of(pile):
@@ -33,6 +37,31 @@ def payings_by_all_counts(pile, amount):
         if sum(worth * count for worth, count in lots) == amount:
             found.append(tuple(lot for lot in lots if lot[1] > 0))
     return sorted(found)
+
+
+def payings_by_plain_tables(pile, amount):
+    """The payings, counted and listed plainly: each sum by each number of coins, each paying by itself."""
+    counts = [[1] + [0] * amount]
+    for worth, many in reversed(pile):
+        ahead = counts[-1]
+        counts.append([sum([ahead[total - worth * coins] for coins in range(min(many, total // worth) + 1)])
+                       for total in range(amount + 1)])
+    counts.reverse()
+    if counts[0][amount] > 2000:
+        return counts[0][amount]
+    begun = [((), amount)]
+    for place, (worth, many) in enumerate(pile):
+        begun = [(paying + ((worth, coins),) if coins else paying, rest - worth * coins)
+                 for paying, rest in begun for coins in range(min(many, rest // worth) + 1)
+                 if counts[place + 1][rest - worth * coins]]
+    return sorted([paying for paying, _ in begun])
+
+
+def payings_or_none(pile, amount):
+    try:
+        return payings(pile, amount)
+    except TooGreat:
+        return None
 
 
 class TestIsPile(unittest.TestCase):
@@ -169,6 +198,56 @@ class TestPayings(unittest.TestCase):
         pile = ((1, 12), (2, 6), (3, 6), (4, 4), (5, 4), (6, 4), (7, 3), (8, 2), (9, 1), (10, 1))
         self.assertLessEqual(whole(pile), 200)
         self.assertEqual(told(payings, pile, whole(pile) // 2), (TooGreat, {}))
+
+
+class TestPayingsSoon(unittest.TestCase):
+    def test_just_2000_of_many_ones_and_more(self):
+        pile, amount = MANY_ONES
+        found = payings(pile, amount)
+        self.assertEqual(len(found), 2000)
+        self.assertEqual(found, payings_by_plain_tables(pile, amount))
+        # With one coin of 9 more there are the same 2,000, and those that have it.
+        self.assertEqual(told(payings, put(pile, ((9, 1),)), amount), (TooGreat, {}))
+        self.assertEqual(told(payings, put(pile, ((amount, 1),)), amount), (TooGreat, {}))
+        self.assertEqual(payings_by_plain_tables(put(pile, ((amount, 1),)), amount), 2001)
+
+    def test_nought_the_whole_and_nearly_the_whole(self):
+        for pile in (TWO_OF_EACH, MANY_ONES[0], JUST_2000[0], JUST_2001[0]):
+            total = whole(pile)
+            self.assertEqual(payings(pile, 0), [()])
+            self.assertEqual(payings(pile, total), [pile])
+            self.assertEqual(payings(pile, total + 1), [])
+            self.assertEqual(payings(pile, 1), [((1, 1),)])
+            self.assertEqual(payings(pile, total - 1), [take(pile, ((1, 1),))])
+            for amount in (2, 3, 5, 9, total - 9, total - 5, total - 3, total - 2):
+                self.assertEqual(payings(pile, amount), payings_by_plain_tables(pile, amount))
+        self.assertEqual(payings(TWO_OF_EACH, 129), [take(TWO_OF_EACH, ((1, 1), (2, 1))), take(TWO_OF_EACH, ((3, 1),))])
+
+    def test_what_a_paying_leaves_is_a_paying_of_the_rest(self):
+        for pile in (TWO_OF_EACH, MANY_ONES[0], JUST_2000[0], JUST_2001[0], ((3, 9), (5, 9), (11, 5), (17, 3))):
+            for amount in range(whole(pile) + 1):
+                answer, rest = told(payings, pile, amount), told(payings, pile, whole(pile) - amount)
+                if answer == (TooGreat, {}):
+                    self.assertEqual(rest, answer)
+                else:
+                    self.assertEqual(len(answer), len(rest))
+                    self.assertLessEqual({take(pile, paying) for paying in answer[::7]}, set(rest))
+
+    def test_all_amounts_against_plain_tables(self):
+        for pile in (TWO_OF_EACH[3:], ((1, 25), (2, 15), (5, 8), (10, 3)), ((3, 9), (5, 9), (11, 5), (17, 3)),
+                     ((2, 40), (3, 1), (50, 2)), ((1, 1), (2, 1), (4, 1), (8, 1), (16, 1), (32, 1), (64, 1)),
+                     ((7, 5), (8, 5), (9, 5), (10, 5)), ((1, 3), (40, 2), (60, 1)), ((1, 200),), ((100, 2),),
+                     tuple((worth, 1) for worth in range(1, 15)), ((1, 50), (2, 30), (3, 20))):
+            for amount in range(whole(pile) + 2):
+                answer, expected = told(payings, pile, amount), payings_by_plain_tables(pile, amount)
+                with self.subTest(pile=pile, amount=amount):
+                    self.assertEqual(answer, expected if isinstance(expected, list) else (TooGreat, {}))
+
+    def test_they_are_told_several_times_quicker_than_by_plain_tables(self):
+        for pile, amount in (MANY_ONES, (TWO_OF_EACH, 66), (TWO_OF_EACH, 132), (TWO_OF_EACH, 129)):
+            with self.subTest(amount=amount):
+                plainly = seconds(lambda: [payings_by_plain_tables(pile, amount) for _ in range(5)])
+                self.assertLess(3 * seconds(lambda: [payings_or_none(pile, amount) for _ in range(5)]), plainly)
 
 
 class TestRefusals(unittest.TestCase):

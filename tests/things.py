@@ -2,6 +2,7 @@
 
 import copy
 import itertools
+import time
 
 
 def nested(depth, kind=tuple):
@@ -110,13 +111,31 @@ def told(asked, *places, **named):
     return answer
 
 
-def told_each_way(asked, places, words):
+def told_each_way(asked, places, words, **by_name):
     """What is told of arguments by their places, of the first of them so, and of all by their names."""
     answers = []
     for by_place in range(len(words) + 1):
-        named = dict(zip(words[by_place:], places[by_place:]))
+        named = dict(zip(words[by_place:], places[by_place:]), **by_name)
         answers.append(told(asked, *places[:by_place], **named))
     return answers
+
+
+def seconds(work, rounds=7):
+    """How long some work takes of the processor's time, where nothing else disturbs it."""
+    taken = []
+    for _ in range(rounds):
+        begun = time.process_time()
+        work()
+        taken.append(time.process_time() - begun)
+    return min(taken)
+
+
+def count_up():
+    """A plain loop by which other work is measured, however quick the machine is."""
+    total = 0
+    for number in range(100000):
+        total += number
+    return total
 
 
 def one_or_more_wrong(goods, bads):
