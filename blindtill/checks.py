@@ -13,3 +13,9 @@ def check_number(thing, least):
     """Refuse what is no whole number from least on."""
     if not is_number(thing, least):
         raise NoNumber()
+
+
+def check_bound(thing, least):
+    """Refuse what is neither None, which bounds nothing, nor a whole number from least on."""
+    if thing is not None:
+        check_number(thing, least)

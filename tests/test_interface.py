@@ -4,7 +4,7 @@ import inspect
 import pathlib
 import unittest
 
-from blindtill import piles, rights
+from blindtill import clerk, most, piles, rights, safe, serving
 
 PACKAGE = pathlib.Path(piles.__file__).parent
 
@@ -13,7 +13,14 @@ INTERFACE = (
     (piles, "put", "(one, other)"), (piles, "take", "(pile, other)"), (piles, "payings", "(pile, amount)"),
     (rights, "is_right", "(thing)"), (rights, "names", "(right)"), (rights, "may", "(right, name)"),
     (rights, "behind", "(right, name, amount)"), (rights, "lapse", "(right, name)"), (rights, "trimmed", "(right)"),
-    (rights, "after", "(right, run)"))
+    (rights, "after", "(right, run)"),
+    (most, "most", "(right, *, below=None, calls=None)"), (most, "longest", "(right)"),
+    (most, "most_run", "(right, *, below=None, calls=None)"),
+    (serving, "serves", "(pile, right)"), (serving, "stumped", "(pile, right)"),
+    (serving, "judge_stump", "(pile, right, thing)"),
+    (clerk, "pay", "(pile, amount)"), (clerk, "paid", "(pile, amounts)"),
+    (safe, "allow", "(pile, amount, *, below=None)"), (safe, "is_safe", "(pile, paying)"),
+    (safe, "telling_call", "(pile, paying)"), (safe, "safe_payings", "(pile, amount)"))
 
 
 class TestInterface(unittest.TestCase):

@@ -5,6 +5,7 @@ import unittest
 
 from blindtill.errors import NoCall, NoName, NoNumber, NoRight
 from blindtill.rights import after, behind, is_right, lapse, may, names, trimmed
+from runs import all_runs, is_run, one_form_around, parts_of, rights_of_two_forms
 from things import (
     A, B, C, NO_CALLS, NO_LISTS, NO_NAMES, NO_NUMBERS_FROM_1, NO_RIGHTS, SOME_NO_RIGHTS, nested, one_or_more_wrong,
     told, told_each_way, within)
@@ -21,69 +22,12 @@ def broken_at(place):
     return (NoCall, {"place": place})
 
 
-def one_form_around(right, other):
-    """The right within each form, beside another one where the form takes several."""
-    return [("all", (right,)), ("all", (right, other)), ("all", (other, NONE, right)), ("one", (right,)),
-            ("one", (right, other)), ("one", (NONE, other, right)), ("within", 2, right), ("within", 4, right),
-            ("within", 9, right), ("calls", 1, right), ("calls", 2, right), ("calls", 5, right)]
-
-
-def rights_of_two_forms():
-    """Each form within each other one, trimmed or not."""
-    inner = [NONE, ("all", ()), ("one", ()), A, ("all", (A, B)), ("one", (A, B)), ("one", (A, NONE, ("all", (B,))))]
-    inner += [("within", 3, A), ("calls", 1, A), ("within", 4, ("all", (A, B))), ("calls", 2, ("all", (A, B)))]
-    once = [right for part in inner for right in one_form_around(part, C)]
-    other = ("call", "d", 2, 1)
-    return inner + once + [right for part in once[::2] for right in one_form_around(part, other)]
-
-
-def parts_of(right):
-    if right[0] in ("all", "one"):
-        return list(right[1])
-    return [right[2]] if right[0] in ("within", "calls") else []
-
-
-def names_in(right):
-    if right[0] == "call":
-        return [right[1]]
-    return [name for part in parts_of(right) for name in names_in(part)]
-
-
-def is_run(right, run):
-    """Whether a list of calls is a run, told of all its calls at once: not call by call as the program goes."""
-    kind = right[0]
-    if kind == "none":
-        return run == []
-    if kind == "call":
-        return len(run) <= right[3] and all(name == right[1] and 1 <= amount <= right[2] for name, amount in run)
-    if kind == "within":
-        return sum(amount for _, amount in run) <= right[1] and is_run(right[2], run)
-    if kind == "calls":
-        return len(run) <= right[1] and is_run(right[2], run)
-    shares = [[call for call in run if call[0] in names_in(part)] for part in right[1]]
-    if sum(len(share) for share in shares) < len(run):
-        return False
-    if kind == "one" and len([share for share in shares if share]) > 1:
-        return False
-    return all(is_run(part, share) for part, share in zip(right[1], shares))
-
-
 def is_trim(right):
     """Whether there is nothing in a right to trim."""
     parts = parts_of(right)
     if right[0] in ("all", "one") and (len(parts) < 2 or right[0] in [part[0] for part in parts]):
         return False
     return NONE not in parts and all(is_trim(part) for part in parts)
-
-
-def all_runs(right, longest, amounts):
-    """All runs of so many calls at most."""
-    calls = [(name, amount) for name in names_in(right) for amount in amounts]
-    runs = [[]]
-    for run in runs:
-        if len(run) < longest:
-            runs.extend(run + [call] for call in calls if is_run(right, run + [call]))
-    return runs
 
 
 class TestIsRight(unittest.TestCase):
