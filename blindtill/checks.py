@@ -1,6 +1,8 @@
-"""What several files ask of the numbers that they are handed."""
+"""What several files ask of the numbers that they are handed, and what is small."""
 
 from blindtill.errors import NoNumber
+
+SMALL = 200
 
 
 def is_number(thing, least):

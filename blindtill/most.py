@@ -5,9 +5,9 @@ of which, for each count, so many from the first on are a run of the greatest su
 in each "one" the same right is chosen.
 """
 
-from blindtill.checks import check_bound
+from blindtill.checks import SMALL, check_bound
 from blindtill.errors import TooGreat
-from blindtill.rights import check_right
+from blindtill.rights import check_right, straight_within
 
 MOST_CALLS = 60
 
@@ -45,6 +45,31 @@ def _sum_of_all_calls(right, below):
 
 def _amount_below(amount, below):
     return amount if below is None else min(amount, below - 1)
+
+
+def sums_below(right):
+    """The list of the right's mosts for each below from 0 to one above the greatest most of its calls."""
+    # No call is less than 1; the last sum is that of all calls.
+    return [0] + [greatest_sum(right, below, None) for below in range(1, greatest_call(right) + 2)]
+
+
+def greatest_call(right):
+    """The greatest most that stands in a call of the right, 0 where none is there."""
+    if right[0] == "call":
+        return right[2]
+    return max([greatest_call(part) for part in straight_within(right)], default=0)
+
+
+def check_small_right(right):
+    """Refuse what is known to be a right, but isn't small."""
+    if not _has_small_mosts(right) or greatest_sum(right, None, None) > SMALL:
+        raise TooGreat()
+
+
+def _has_small_mosts(right):
+    if (right[0] == "call" and right[2] > SMALL) or (right[0] == "within" and right[1] > SMALL):
+        return False
+    return all([_has_small_mosts(part) for part in straight_within(right)])
 
 
 def longest(right):

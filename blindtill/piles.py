@@ -1,9 +1,8 @@
 """Piles of coins, and the payings that lie in them."""
 
-from blindtill.checks import check_number, is_number
+from blindtill.checks import SMALL, check_number, is_number
 from blindtill.errors import NoCoins, NoPile, TooGreat
 
-SMALL_WHOLE = 200
 MOST_PAYINGS = 2000
 
 
@@ -59,6 +58,19 @@ def put(one, other):
     return tuple([(worth, lots[worth]) for worth in sorted(lots)])
 
 
+def coins_of(pile):
+    """The rising list of the worths of all coins of what is known to be a pile."""
+    return [worth for worth, many in pile for _ in range(many)]
+
+
+def gathered(coins):
+    """The pile of these coins, a list of their worths."""
+    lots = {}
+    for worth in sorted(coins):
+        lots[worth] = lots.get(worth, 0) + 1
+    return tuple([(worth, many) for worth, many in lots.items()])
+
+
 def take(pile, other):
     """The pile without the coins of the other one."""
     check_pile(pile)
@@ -74,7 +86,7 @@ def take(pile, other):
 
 def check_small_pile(pile):
     """Refuse what is known to be a pile, but isn't small."""
-    if sum_of(pile) > SMALL_WHOLE:
+    if sum_of(pile) > SMALL:
         raise TooGreat()
 
 
@@ -85,17 +97,18 @@ def payings(pile, amount):
     check_small_pile(pile)
     if amount > sum_of(pile):
         return []
-    if _may_be_too_many(pile) and _how_many(pile, amount) > MOST_PAYINGS:
+    # The payings of all amounts together are the piles within it, which are soon counted.
+    if count_within(pile) > MOST_PAYINGS and _how_many(pile, amount) > MOST_PAYINGS:
         raise TooGreat()
     return _listed(pile, amount)
 
 
-def _may_be_too_many(pile):
-    """Whether more piles lie in the pile, of whatever whole, than payings may be told."""
-    within = 1
+def count_within(pile):
+    """How many piles lie in the pile, of whatever whole."""
+    count = 1
     for _, many in pile:
-        within *= many + 1
-    return within > MOST_PAYINGS
+        count *= many + 1
+    return count
 
 
 def _how_many(pile, amount):

@@ -74,7 +74,7 @@ def straight_within(right):
     return ()
 
 
-def _with_straight(right, rights):
+def with_straight(right, rights):
     """The right with these rights straight within it, in the place of its own."""
     if right[0] in ("all", "one"):
         return (right[0], tuple(rights))
@@ -83,16 +83,22 @@ def _with_straight(right, rights):
     return right
 
 
+def depth(right):
+    """How deep what is known to be a right lies."""
+    return 1 + max([depth(part) for part in straight_within(right)], default=0)
+
+
 def names(right):
     """The list of the names of the right's calls, as they stand."""
     check_right(right)
-    return _names_within(right)
+    return names_within(right)
 
 
-def _names_within(right):
+def names_within(right):
+    """What names tells of what is known to be a right."""
     if right[0] == "call":
         return [right[1]]
-    return [name for part in straight_within(right) for name in _names_within(part)]
+    return [name for part in straight_within(right) for name in names_within(part)]
 
 
 def may(right, name):
@@ -117,7 +123,7 @@ def behind(right, name, amount):
     check_number(amount, 1)
     if amount > _may_within(right, name):
         raise NoCall()
-    return _trim(_rest(right, name, amount))
+    return trim(_rest(right, name, amount))
 
 
 def _rest(right, name, amount):
@@ -126,10 +132,10 @@ def _rest(right, name, amount):
     if kind == "call":
         return ("call", name, right[2], right[3] - 1) if right[3] > 1 else NONE
     if kind == "all":
-        return ("all", tuple([_rest(part, name, amount) if name in _names_within(part) else part
+        return ("all", tuple([_rest(part, name, amount) if name in names_within(part) else part
                               for part in right[1]]))
     if kind == "one":
-        chosen = [part for part in right[1] if name in _names_within(part)]
+        chosen = [part for part in right[1] if name in names_within(part)]
         return _rest(chosen[0], name, amount)
     left = right[1] - (amount if kind == "within" else 1)
     return (kind, left, _rest(right[2], name, amount)) if left > 0 else NONE
@@ -139,30 +145,36 @@ def lapse(right, name):
     """The right without the call of the name and all its times."""
     check_right(right)
     check_name(name)
-    if name not in _names_within(right):
+    if name not in names_within(right):
         raise NoCall()
-    return _trim(_without(right, name))
+    return lapsed(right, name)
+
+
+def lapsed(right, name):
+    """What lapse tells of what are known to be a right and one of its calls' names."""
+    return trim(_without(right, name))
 
 
 def _without(right, name):
     if right[0] == "call":
         return NONE if right[1] == name else right
-    return _with_straight(right, [_without(part, name) for part in straight_within(right)])
+    return with_straight(right, [_without(part, name) for part in straight_within(right)])
 
 
 def trimmed(right):
     """The right without what stands in it for nothing."""
     check_right(right)
-    return _trim(right)
+    return trim(right)
 
 
-def _trim(right):
-    rights = [_trim(part) for part in straight_within(right)]
+def trim(right):
+    """What trimmed tells of what is known to be a right, or would be one if it lay less deep."""
+    rights = [trim(part) for part in straight_within(right)]
     if right[0] in ("all", "one"):
         return _gathered(right[0], rights)
     if right[0] in ("within", "calls") and rights[0] == NONE:
         return NONE
-    return _with_straight(right, rights)
+    return with_straight(right, rights)
 
 
 def _gathered(kind, rights):
@@ -187,8 +199,8 @@ def after(right, run):
     for place, thing in enumerate(run):
         if not _may_be_made(left, thing):
             raise NoCall(place)
-        left = _trim(_rest(left, thing[0], thing[1]))
-    return _trim(left)
+        left = trim(_rest(left, thing[0], thing[1]))
+    return trim(left)
 
 
 def _may_be_made(right, thing):

@@ -11,10 +11,10 @@ def allow(pile, amount, *, below=None):
     check_number(amount, 1)
     check_bound(below, 2)
     # One call holds all that is left: a bound above the whole is none.
-    return _allowed(pile, amount, sum_of(pile) + 2 if below is None else below)
+    return allowed(pile, amount, sum_of(pile) + 2 if below is None else below)
 
 
-def _allowed(pile, amount, below):
+def allowed(pile, amount, below):
     """What allow tells for a below that isn't None."""
     greatest = sum_of(pile) - amount
     if greatest < 0:
@@ -57,7 +57,7 @@ def _broken_at(pile, paying):
 def _needs(pile, amount):
     """For each lot of the pile what the lesser coins must come to behind a safe paying of the amount."""
     # No call is less than 1. Where no call of up to the amount is served, nothing was promised that could break.
-    return [(_allowed(pile, amount, worth) or 0) if worth > 1 else 0 for worth, _ in pile]
+    return [(allowed(pile, amount, worth) or 0) if worth > 1 else 0 for worth, _ in pile]
 
 
 def _too_few_at(pile, paying, needs):

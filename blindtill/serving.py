@@ -1,7 +1,7 @@
 """Which rights a till serves, and runs that no way of paying outlives where it doesn't."""
 
 from blindtill.checks import is_number
-from blindtill.errors import NoCall, TooGreat
+from blindtill.errors import NoCall, TooGreat, Unserved
 from blindtill.most import MOST_CALLS, count_above, first_calls, greatest_sum, rows_of
 from blindtill.piles import check_pile, sum_of
 from blindtill.rights import after, check_right
@@ -11,13 +11,27 @@ def serves(pile, right):
     """Whether some way of paying pays each run of the right from the pile."""
     check_pile(pile)
     check_right(right)
-    for below, bound in _bounds(pile):
-        if greatest_sum(right, below, None) > bound:
-            return False
-    return True
+    return meets(pile, needs_of(pile, right))
 
 
-def _bounds(pile):
+def needs_of(pile, right):
+    """For each worth above 1 of the pile, and None, the most of the right that [12] holds against the lesser coins."""
+    return {below: greatest_sum(right, below, None) for below, _ in bounds_of(pile)}
+
+
+def meets(pile, needs):
+    """Whether a pile, of no worths that the needs don't tell of, serves what has these needs."""
+    return all([needs[below] <= bound for below, bound in bounds_of(pile)])
+
+
+def check_meets(pile, needs):
+    """Refuse a pile that doesn't serve what has these needs."""
+    for below, bound in bounds_of(pile):
+        if needs[below] > bound:
+            raise Unserved(below)
+
+
+def bounds_of(pile):
     """Each worth above 1 and None for no worth, with what calls of less than this may sum to."""
     bounds = []
     lesser = 0
@@ -34,7 +48,7 @@ def stumped(pile, right):
     check_right(right)
     fewest, found = None, None
     # The worths rise and None comes last, so of runs of like counts the first one is told.
-    for below, bound in _bounds(pile):
+    for below, bound in bounds_of(pile):
         for row in rows_of(right, below):
             count = count_above(row, bound)
             if count is not None and (fewest is None or count < fewest):

@@ -3,6 +3,8 @@
 import functools
 import random
 
+from blindtill.most import longest, most
+from blindtill.piles import less, whole
 from blindtill.rights import behind, may
 from things import A, B, C
 
@@ -144,3 +146,29 @@ def most_by_tables(right, below, calls):
         shared = [max(shared[count - first] + table[first] for first in range(count + 1))
                   for count in range(calls + 1)]
     return shared
+
+
+def renamed(right, letter):
+    """The right with this letter ahead of each name."""
+    if right[0] == "call":
+        return ("call", letter + right[1], right[2], right[3])
+    if right[0] in ("all", "one"):
+        return (right[0], tuple(renamed(part, letter) for part in right[1]))
+    return right[:2] + (renamed(right[2], letter),) if right[0] in ("within", "calls") else right
+
+
+def all_of(*rights):
+    """The all of these rights, each with names of its own."""
+    return ("all", tuple(renamed(right, "abcdefghijklmnopqrstuvwxyz"[at]) for at, right in enumerate(rights)))
+
+
+def fails_at(pile, right):
+    """The worths above 1 of the pile, then None for the whole, at which it doesn't serve the right."""
+    worths = [worth for worth, _ in pile if worth > 1 and most(right, below=worth) > less(pile, worth)]
+    return worths + [None] * (most(right) > whole(pile))
+
+
+def chance_rights(seed, greatest_sum=9, calls=4, names="abc", greatest=4, times=2, count=150):
+    """Rights of two forms and by chance, of sums and of counts of calls up to these."""
+    rights = rights_of_two_forms()[::5] + any_rights(seed, count, names, greatest, times)
+    return [right for right in rights if most(right) <= greatest_sum and longest(right) <= calls]

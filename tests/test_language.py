@@ -126,10 +126,11 @@ class TestLanguage(unittest.TestCase):
                     self.assertIsInstance(node.ctx, ast.Store)
 
     def test_l25_methods(self):
+        known = METHODS | own_names() | {"__init__"}
         for path, node in nodes():
             if isinstance(node, ast.Call) and isinstance(node.func, ast.Attribute):
                 with self.subTest(path=path.name, line=node.lineno):
-                    self.assertIn(node.func.attr, METHODS | own_names() | {"__init__"})
+                    self.assertIn(node.func.attr, known)
 
     def test_l27_strings(self):
         for path, node in nodes():

@@ -4,6 +4,8 @@ import copy
 import itertools
 import time
 
+from blindtill.errors import Unserved
+
 
 def nested(depth, kind=tuple):
     """A tuple or list that lies so deep that nothing that goes all through it comes back."""
@@ -145,3 +147,13 @@ def one_or_more_wrong(goods, bads):
             choices = [bads[at] if wrong else (goods[at],) for at, wrong in enumerate(are_wrong)]
             for row in itertools.product(*choices):
                 yield row, are_wrong.index(True)
+
+
+def first_wrong(asked, words, goods, bads, refusals):
+    """For each row with wrong arguments what is told of it each way, and the refusal of the first wrong one."""
+    for row, place in one_or_more_wrong(goods, bads):
+        yield told_each_way(asked, row, words), [(refusals[place], {})] * (len(words) + 1)
+
+
+def unserved(worth):
+    return (Unserved, {"worth": worth})
