@@ -169,8 +169,8 @@ class House:
         changed = melted(right, which, into)
         if changed is None:
             raise NoCall()
+        # Fewer calls, which lie no deeper: it can't be too great.
         joined = Till(state.pile, promises_with(state.promises, right, changed))
-        check_size(joined)
         check_served(joined)
         self._tills[till] = joined
 
@@ -229,8 +229,6 @@ class House:
 
     def carry(self, till, other, *, name):
         """A promise goes to another till, behind its own."""
-        check_name(till)
-        check_name(other)
         check_name(name)
         state, others = self._two_standing(till, other)
         row = promise_named(state, name)

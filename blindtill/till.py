@@ -7,7 +7,7 @@ from blindtill.serving import check_meets, needs_of
 
 MOST_NAMES = 12
 MOST_PROMISES = 12
-MOST_WHOLE = 10 ** 12
+MOST_WHOLE = 1000000000000
 
 
 class Till:

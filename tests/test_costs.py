@@ -224,7 +224,7 @@ class TestStandsFor(unittest.TestCase):
                 self.assertIs(serves(pile, ("calls", calls, one)), False)
 
     def test_rights_by_chance(self):
-        for one, other in itertools.product(FEW[::2], FEW[1::2] + FEW[::8]):
+        for one, other in itertools.product(FEW[::2], FEW[1::4] + FEW[::8]):
             if max(longest(one), longest(other)) <= 12 and max(depth(one), depth(other)) <= 5:
                 self.check(one, other)
 
@@ -341,7 +341,7 @@ class TestSoon(unittest.TestCase):
         for right in (GREAT, answer, ("calls", 12, answer)):
             for work in (lambda: cover(right), lambda: choice(right), lambda: no_dearer(right, right),
                          lambda: told(stands_for, right, right)):
-                self.assertLess(seconds(work, 2), 250 * seconds(count_up, 3))
+                self.assertLess(seconds(work, 1), 250 * seconds(count_up, 3))
 
 
 if __name__ == "__main__":

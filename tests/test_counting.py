@@ -41,7 +41,7 @@ def count(pile):
 class TestCounting(unittest.TestCase):
     def test_against_all_small_piles(self):
         most_told = 0
-        for right in RIGHTS[::7] + RIGHTS[-2:]:
+        for right in RIGHTS[::9] + RIGHTS[-2:]:
             for worth, coins in itertools.product(range(14), range(7)):
                 expected = listed(right, worth, coins)
                 most_told = max(most_told, len(expected))
@@ -156,19 +156,10 @@ class TestTooGreat(unittest.TestCase):
         self.assertEqual(place_of(NONE, till_at(NONE, least, 4, counts[least] - 1)), counts[least] - 1)
 
     def test_just_3000_is_told(self):
-        for worth, coins in itertools.product(range(101), range(21)):
-            if how_many(NONE, worth, coins) in (3000, 3001):
-                self.assertEqual(told(all_tills, NONE, worth, coins) == (TooGreat, {}),
-                                 how_many(NONE, worth, coins) == 3001)
-        # A right under which there are just 3,000 or a few fewer or more.
-        near = {}
-        for amount in range(1, 60):
-            for worth, coins in ((100, 8), (90, 8), (80, 9), (100, 7)):
-                near.setdefault(how_many(("call", "a", amount, 1), worth, coins),
-                                (("call", "a", amount, 1), worth, coins))
-        above, beneath = min(each for each in near if each > 3000), max(each for each in near if each <= 3000)
-        self.assertEqual(told(all_tills, *near[above]), (TooGreat, {}))
-        self.assertEqual(len(told(all_tills, *near[beneath])), beneath)
+        just, one_more = (("within", 33, ("call", "a", 17, 2)), 70, 10), (("call", "a", 13, 1), 69, 7)
+        self.assertEqual((told(how_many, *just), told(how_many, *one_more)), (3000, 3001))
+        self.assertEqual(len(told(all_tills, *just)), 3000)
+        self.assertEqual(told(all_tills, *one_more), (TooGreat, {}))
 
 
 class TestRefusals(unittest.TestCase):

@@ -125,6 +125,41 @@ class TestLanguage(unittest.TestCase):
                 with self.subTest(path=path.name, line=node.lineno):
                     self.assertIsInstance(node.ctx, ast.Store)
 
+    def test_l15_no_local_name_is_an_import_or_a_class_of_its_file(self):
+        for path, text in sources():
+            tree = ast.parse(text)
+            above = {alias.name for row in tree.body if isinstance(row, ast.ImportFrom) for alias in row.names}
+            above |= {row.name for row in tree.body if isinstance(row, ast.ClassDef)}
+            for node in ast.walk(tree):
+                if isinstance(node, ast.arg) or (isinstance(node, ast.Name) and isinstance(node.ctx, ast.Store)):
+                    with self.subTest(path=path.name, line=node.lineno):
+                        self.assertNotIn(getattr(node, "id", None) or getattr(node, "arg", None), above)
+
+    def test_l15_each_name_is_bound_once(self):
+        for path, text in sources():
+            bound = []
+            for row in ast.parse(text).body:
+                if isinstance(row, ast.ImportFrom):
+                    bound += [alias.name for alias in row.names]
+                elif isinstance(row, (ast.FunctionDef, ast.ClassDef)):
+                    bound.append(row.name)
+                elif isinstance(row, ast.Assign):
+                    bound += [target.id for target in row.targets]
+            with self.subTest(path=path.name):
+                self.assertEqual(sorted(set(bound)), sorted(bound))
+                self.assertFalse([name for name in bound if hasattr(builtins, name)])
+
+    def test_l16_no_two_files_import_from_each_other(self):
+        imported = {}
+        for path, text in sources():
+            imported[path.stem] = [row.module.split(".")[-1] for row in ast.parse(text).body
+                                   if isinstance(row, ast.ImportFrom) and row.module.startswith("blindtill.")]
+        done = []
+        while len(done) < len(imported):
+            ready = [name for name in imported if name not in done and set(imported[name]) <= set(done)]
+            self.assertNotEqual(ready, [])
+            done += ready
+
     def test_l25_methods(self):
         known = METHODS | own_names() | {"__init__"}
         for path, node in nodes():

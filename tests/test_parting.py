@@ -80,7 +80,7 @@ class TestParted(unittest.TestCase):
         rand = random.Random(74)
         ways = {True: 0, False: 0}
         for pile in SMALL_PILES[::5] + list(GREATER_PILES):
-            for rights in itertools.product(RIGHTS[::9], RIGHTS[::11]):
+            for rights in itertools.product(RIGHTS[::11], RIGHTS[::13]):
                 parts = parts_by_chance(rand, whole(pile), rights)
                 if parts is not None:
                     ways[self.check(pile, parts)] += 1
