@@ -30,12 +30,13 @@ def _are_worths(thing):
 
 def fewest_for(sums, worths):
     """A pile of fewest coins, of these worths or, where they are None, of any, that has these sums."""
+    # No coin that is put there is of a worth behind the end of the sums.
+    usable = list(range(1, len(sums))) if worths is None else [worth for worth in worths if worth < len(sums)]
     coins = []
     total = 0
     while total < sums[-1]:
-        coin = _greatest_fitting(sums, total)
-        if worths is not None:
-            coin = max([worth for worth in worths if worth <= coin])
+        fitting = _greatest_fitting(sums, total)
+        coin = max([worth for worth in usable if worth <= fitting])
         coins.append(coin)
         total += coin
     return gathered(coins)

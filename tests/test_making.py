@@ -105,6 +105,11 @@ class TestFewest(unittest.TestCase):
         with self.assertRaises(TypeError):
             fewest(A, [1, 2])
 
+    def test_long_lists_of_worths(self):
+        worths = [1] + list(range(3, 100000, 7))
+        self.assertEqual(fewest(("call", "a", 150, 1), worths=worths), self.check(("call", "a", 150, 1), worths[:30]))
+        self.assertLess(seconds(lambda: fewest(("call", "a", 1, 200), worths=worths), 3), 10 * seconds(count_up, 3))
+
     def test_refused(self):
         for thing in NO_RIGHTS:
             self.assertEqual(told_each_way(fewest, (thing,), ("right",)), [(NoRight, {})] * 2)
