@@ -5,10 +5,10 @@ import unittest
 
 from blindtill.clerk import pay
 from blindtill.costs import no_dearer
-from blindtill.errors import NoNumber, NoPay, NoPile, TooGreat
+from blindtill.errors import NoNumber, NoPile, TooGreat
 from blindtill.making import fewest
 from blindtill.most import most
-from blindtill.piles import is_pile, less, put, take, whole
+from blindtill.piles import is_pile, less, payings, put, take, whole
 from blindtill.powers import alive, does_all, greatest, leanest, outdoes, power, telling_company, telling_right
 from blindtill.rights import behind, is_right, trimmed
 from blindtill.serving import serves
@@ -230,11 +230,10 @@ class TestAlive(unittest.TestCase):
             if serves(pile, right):
                 dead = take(pile, alive(pile))
                 for name, amount in next_calls(right):
-                    paying = pay(pile, amount)
-                    self.assertEqual([lot for lot in paying if lot[0] in dict(dead)], [])
-                    self.assertIs(serves(take(pile, paying), behind(right, name, amount)), True)
+                    self.assertIs(serves(take(pile, pay(pile, amount)), behind(right, name, amount)), True)
+                    for paying in payings(pile, amount):
+                        self.assertEqual([lot for lot in paying if lot[0] in dict(dead)], [])
                 self.assertIs(serves(alive(pile), right), True)
-                self.assertTrue(all(told(pay, pile, dead[0][0])[0] != NoPay for _ in dead[:1]))
 
 
 class TestLeanest(unittest.TestCase):

@@ -1,6 +1,5 @@
 """Points [15] and [16], and what [2], [3] and [4] say of safe payings."""
 
-import itertools
 import unittest
 
 from blindtill.clerk import pay
